@@ -1,0 +1,1 @@
+"""Slantways: ways below a slanted line, and what they count."""

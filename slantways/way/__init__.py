@@ -1,0 +1,1 @@
+"""Slopes, ways, and words that are turned round."""
