@@ -1,8 +1,31 @@
 """What arguments of several parts of the package are checked for."""
 
+# Integers that are passed have at most sixty digits.
+GREATEST = 10 ** 60 - 1
+
+
+def is_number(value):
+    """Whether a value is an integer of any size."""
+    return isinstance(value, int) and not isinstance(value, bool)
+
 
 def is_whole_between(value, least, most):
     """Whether a value is an integer within two bounds, both of them allowed."""
-    if isinstance(value, bool) or not isinstance(value, int):
+    return is_number(value) and least <= value <= most
+
+
+def is_ascending(value, least, most):
+    """Whether a value is an ascending tuple of integers within two bounds."""
+    if not isinstance(value, tuple):
         return False
-    return least <= value <= most
+    next_least = least
+    for number in value:
+        if not is_whole_between(number, next_least, most):
+            return False
+        next_least = number + 1
+    return True
+
+
+def is_same_row(value, row):
+    """Whether a value is a tuple of integers, and the same one as a row."""
+    return isinstance(value, tuple) and all([is_number(number) for number in value]) and value == row

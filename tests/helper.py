@@ -1,7 +1,11 @@
 """What the tests share: wrong values, brute force over texts, and a check of raised errors."""
 import unittest
 from itertools import combinations
+from math import gcd
 
+from slantways.heap.heaps import Heap
+from slantways.shelf.shelves import Shelf
+from slantways.sort.sorting import Scale
 from slantways.way.ways import Slope, Way
 
 DEEP = ((((((((1,),),),),),),),)
@@ -14,7 +18,18 @@ def wrong_values():
         "", "r", "s", "rs", "3:4", "\n", "rrrssss\n", "x" * 3000,
         (), (1,), (3, 4), ("r", "s"), [], [1, 2], {}, {"a": 1}, {1: [2, (3,)]}, DEEP,
         Slope(3, 4), Slope(60, 60), Way(Slope(3, 4), "rrrssss"), Way(Slope(1, 1), "rs"),
+        Shelf(Slope(3, 4), (1, 2, 5)), Shelf(Slope(1, 1)), Heap((2, 1)), Heap(), Scale({"a": 1, "b": -2}),
     ]
+
+
+def wrong_for(kind):
+    """The wrong values that are no objects of a class."""
+    return [value for value in wrong_values() if not isinstance(value, kind)]
+
+
+def wrong_numbers():
+    """The wrong values that are no integers, and integers of more than sixty digits."""
+    return [value for value in wrong_values() if value.__class__ is not int] + [10 ** 60, -10 ** 60, 10 ** 99]
 
 
 def all_words(rises, steps):
@@ -39,6 +54,27 @@ def way_texts(rises, steps):
 def small_sides(most):
     """All pairs of sides that are together at most a number."""
     return [(rises, steps) for rises in range(1, most) for steps in range(1, most - rises + 1)]
+
+
+def coprime_sides(width):
+    """All pairs of sides up to 13 without a common part, with a product of (a - 1) and (b - 1) up to a width."""
+    pairs = [(rises, steps) for rises in range(1, 14) for steps in range(1, 14) if gcd(rises, steps) == 1]
+    return [(rises, steps) for rises, steps in pairs if (rises - 1) * (steps - 1) <= width]
+
+
+def is_closed(gaps, rises, steps):
+    """Whether the integers of at least 0 that are no gaps hold 0, and each sum of a member and a side."""
+    members = [number for number in range(max(gaps, default=0)) if number not in gaps]
+    return 0 not in gaps and not any(member + side in gaps for member in members for side in (rises, steps))
+
+
+def gap_sets(rises, steps):
+    """The gaps of all shelves, found among all sets of integers above 0 and below (a - 1) (b - 1)."""
+    numbers = range(1, (rises - 1) * (steps - 1))
+    found = []
+    for many in range(len(numbers) + 1):
+        found.extend(gaps for gaps in combinations(numbers, many) if is_closed(gaps, rises, steps))
+    return found
 
 
 class Case(unittest.TestCase):

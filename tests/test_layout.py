@@ -16,6 +16,19 @@ FUNCTIONS = {
         "way_of": ["slope", "text"], "ways_among": ["slope", "text"], "period": ["slope", "text"],
         "touch_count": ["way"], "words_of": ["way"], "turn_to": ["way", "text"],
     },
+    "slantways.shelf.shelves": {
+        "is_gaps": ["slope", "value"], "moves": ["one", "other"], "is_moves": ["one", "other", "value"],
+        "shelves": ["slope"], "filling_count": ["slope"],
+    },
+    "slantways.heap.heaps": {
+        "heap_of": ["shelf"], "shelf_of": ["slope", "heap"], "heaps": ["slope"], "greatest": ["slope"],
+        "mean": ["slope"],
+    },
+    "slantways.count.counts": {
+        "room": ["way"], "room_rows": ["way"], "sky": ["way"], "pairs": ["way"], "paired_squares": ["way"],
+        "level_pairs": ["way"], "free_numbers": ["shelf"], "counts_of": ["way"],
+    },
+    "slantways.sort.sorting": {"sorted_way": ["way"], "unsorted_way": ["way"], "way_rounds": ["way"]},
 }
 CLASSES = {
     ("slantways.way.ways", "Slope"): (
@@ -26,7 +39,49 @@ CLASSES = {
         ["slope", "text"], ["exchanged", "__len__", "__iter__", "__lt__", "__eq__", "__str__"],
         ["slope", "text", "levels", "runs"],
     ),
+    ("slantways.shelf.shelves", "Shelf"): (
+        ["slope", "gaps"],
+        ["of_way", "of_makers", "way", "dual", "exchanged", "addable", "removable", "added", "removed", "holds",
+         "__or__", "__and__", "__contains__", "__eq__", "__str__"],
+        ["slope", "gaps", "rise_makers", "step_makers", "makers"],
+    ),
+    ("slantways.heap.heaps", "Heap"): (
+        ["rows"],
+        ["of_first_hooks", "turned", "hooks", "holds", "rim", "off", "is_without", "rims", "end_of", "__lt__", "__eq__",
+         "__len__", "__iter__", "__str__"],
+        ["rows", "size", "first_hooks"],
+    ),
+    ("slantways.sort.sorting", "Scale"): (
+        ["weights"],
+        ["place_levels", "order", "sorted_text", "back_levels", "is_back_levels", "unsorted", "is_order", "course",
+         "rounds", "way_to", "__getitem__", "__invert__", "__contains__", "__len__", "__eq__", "__str__"],
+        ["weights", "letters"],
+    ),
 }
+PARAMETERS = {
+    ("slantways.shelf.shelves", "Shelf"): {
+        "of_way": ["way"], "of_makers": ["slope", "numbers"], "way": [], "dual": [], "exchanged": [], "addable": [],
+        "removable": [], "added": ["number"], "removed": ["number"], "holds": ["other"],
+    },
+    ("slantways.heap.heaps", "Heap"): {
+        "of_first_hooks": ["hooks"], "turned": [], "hooks": [], "holds": ["other"], "rim": ["row", "column"],
+        "off": ["row", "column"], "is_without": ["length"], "rims": ["length"], "end_of": ["length"],
+    },
+    ("slantways.sort.sorting", "Scale"): {
+        "place_levels": ["text"], "order": ["text"], "sorted_text": ["text"], "back_levels": ["text"],
+        "is_back_levels": ["text", "value"], "unsorted": ["text"], "is_order": ["text", "value"], "course": ["text"],
+        "rounds": ["text"], "way_to": ["text", "other"],
+    },
+}
+CONSTANTS = {
+    "slantways.way.ways": {"MAX_SIDE": 60},
+    "slantways.shelf.shelves": {"MAX_LISTED": 5000},
+    "slantways.heap.heaps": {"MAX_ROW": 60, "MAX_HEAPS": 5000},
+    "slantways.sort.sorting": {"MAX_WEIGHT": 12, "MAX_TEXT": 24, "MAX_SORTED_WAY": 40, "MAX_ROUNDS": 5000},
+}
+GENERATORS = [
+    ("slantways.way.ways", "ways"), ("slantways.shelf.shelves", "shelves"), ("slantways.heap.heaps", "heaps"),
+]
 LIBRARY = {"math": {"gcd", "lcm", "isqrt", "comb", "perm", "factorial"}}
 
 
@@ -48,8 +103,30 @@ class InterfaceTest(unittest.TestCase):
             for word in properties:
                 self.assertIsInstance(vars(made)[word], property)
 
-    def test_generator(self):
-        self.assertTrue(inspect.isgeneratorfunction(importlib.import_module("slantways.way.ways").ways))
+    def test_parameters_of_methods(self):
+        for (module, name), methods in PARAMETERS.items():
+            made = getattr(importlib.import_module(module), name)
+            for method, parameters in methods.items():
+                # A class method is bound to its class; of the others the first parameter is the object itself.
+                first = [] if isinstance(vars(made)[method], classmethod) else ["self"]
+                self.assertEqual(list(inspect.signature(getattr(made, method)).parameters), first + parameters)
+
+    def test_constants(self):
+        for module, constants in CONSTANTS.items():
+            for name, value in constants.items():
+                self.assertEqual(getattr(importlib.import_module(module), name), value)
+
+    def test_defaults(self):
+        for module, name, parameter in (("slantways.shelf.shelves", "Shelf", "gaps"),
+                                        ("slantways.heap.heaps", "Heap", "rows")):
+            made = getattr(importlib.import_module(module), name)
+            self.assertEqual(inspect.signature(made).parameters[parameter].default, ())
+
+    def test_generators(self):
+        for module, name in GENERATORS:
+            self.assertTrue(inspect.isgeneratorfunction(getattr(importlib.import_module(module), name)))
+        scale = importlib.import_module("slantways.sort.sorting").Scale
+        self.assertTrue(inspect.isgeneratorfunction(scale.course))
 
 
 class FilesTest(unittest.TestCase):

@@ -160,6 +160,12 @@ def check_coprime(slope):
         raise Refused(("common", slope.common))
 
 
+def check_coprime_way(way):
+    """Refuse what is no way, and a way of a slope whose numbers have a common part."""
+    check_way(way)
+    check_coprime(way.slope)
+
+
 def letter_levels(slope, text):
     """The tuple of the levels ahead of the letters of a string of r and s."""
     rises = slope.rises

@@ -1,0 +1,1 @@
+"""The two counts of a way."""

@@ -1,0 +1,1 @@
+"""Heaps of squares."""

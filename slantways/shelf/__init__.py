@@ -1,0 +1,1 @@
+"""Shelves: lots of integers that are closed under adding the numbers of a slope."""

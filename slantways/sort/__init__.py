@@ -1,0 +1,1 @@
+"""Sorting of words and of ways by levels."""
