@@ -77,6 +77,12 @@ class RowsTest(Case):
             self.assertEqual(squares_of(heap.turned().rows), {(j, i) for i, j in squares})
             self.assertEqual(heap.turned().turned(), heap)
 
+    def test_text(self):
+        shown = [str(Heap()), str(Heap((7,))), str(Heap((60,))), str(Heap((4, 2, 1))), f"{Heap((2, 2))}"]
+        self.assertEqual(shown, ["", "7", "60", "4 2 1", "2 2"])
+        for heap in (Heap(), Heap((7,)), Heap((4, 2, 1))):
+            self.assertIs(str(heap).__class__, str)
+
     def test_bounds(self):
         self.same(MAX_ROW, 60)
         for rows in ((60,) * 60, (60,), (1,) * 60, tuple(range(60, 0, -1))):

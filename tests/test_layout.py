@@ -85,6 +85,26 @@ GENERATORS = [
 LIBRARY = {"math": {"gcd", "lcm", "isqrt", "comb", "perm", "factorial"}}
 
 
+def is_call_of(node, names):
+    """Whether an expression is a call of one of some names."""
+    return isinstance(node, ast.Call) and isinstance(node.func, ast.Name) and node.func.id in names
+
+
+def is_string(node):
+    """Whether an expression is a string, an f-string, str(..), repr(..) or the join of a literal (L28)."""
+    if isinstance(node, ast.JoinedStr) or is_call_of(node, ("str", "repr")):
+        return True
+    if isinstance(node, ast.Constant):
+        return isinstance(node.value, str)
+    is_method = isinstance(node, ast.Call) and isinstance(node.func, ast.Attribute)
+    return is_method and node.func.attr == "join" and isinstance(node.func.value, ast.Constant)
+
+
+def is_length(node):
+    """Whether an expression is len(..) or a literal number (L28)."""
+    return is_call_of(node, ("len",)) or isinstance(node, ast.Constant) and isinstance(node.value, int)
+
+
 class InterfaceTest(unittest.TestCase):
     def test_functions(self):
         for module, functions in FUNCTIONS.items():
@@ -149,6 +169,16 @@ class FilesTest(unittest.TestCase):
             for node in ast.walk(ast.parse(text)):
                 if isinstance(node, ast.FunctionDef):
                     self.assertLessEqual(node.end_lineno - node.lineno + 1, 40, node.name)
+
+    def test_returns_of_double_underscore_methods(self):
+        for path in self.sources():
+            for node in ast.walk(ast.parse(path.read_text())):
+                if isinstance(node, ast.FunctionDef) and node.name in ("__str__", "__repr__", "__len__"):
+                    is_right = is_length if node.name == "__len__" else is_string
+                    returns = [one for one in ast.walk(node) if isinstance(one, ast.Return)]
+                    self.assertIsInstance(node.body[-1], ast.Return)
+                    for one in returns:
+                        self.assertTrue(is_right(one.value), (path, one.lineno))
 
     def test_imports(self):
         for path in self.sources():

@@ -3,7 +3,7 @@ from math import gcd
 
 from slantways.checks import GREATEST, is_ascending, is_whole_between
 from slantways.errors import InvalidHeap, InvalidNumber, Refused, TooMany
-from slantways.rows import ascending, spaced
+from slantways.rows import ascending
 from slantways.shelf.shelves import Shelf, check_shelf, shelves
 from slantways.way.ways import check_coprime, check_slope, highest, way_count
 
@@ -119,7 +119,7 @@ class Heap:
         return self._key == other._key
 
     def __str__(self):
-        return spaced(self._rows)
+        return " ".join([str(row) for row in self._rows])
 
 
 def check_heap(heap):
