@@ -1,4 +1,5 @@
 """What arguments of several parts of the package are checked for."""
+from slantways.errors import InvalidNumber
 
 # Integers that are passed have at most sixty digits.
 GREATEST = 10 ** 60 - 1
@@ -12,6 +13,17 @@ def is_number(value):
 def is_whole_between(value, least, most):
     """Whether a value is an integer within two bounds, both of them allowed."""
     return is_number(value) and least <= value <= most
+
+
+def is_integer(value):
+    """Whether a value is an integer that can be passed."""
+    return is_whole_between(value, -GREATEST, GREATEST)
+
+
+def check_integer(number):
+    """Refuse what is no integer that can be passed."""
+    if not is_integer(number):
+        raise InvalidNumber(number)
 
 
 def is_ascending(value, least, most):

@@ -3,7 +3,11 @@ import unittest
 from itertools import combinations
 from math import gcd
 
+from slantways.count.tables import CountTable
 from slantways.heap.heaps import Heap
+from slantways.room.chains import Chain
+from slantways.room.fields import Field
+from slantways.room.rooms import Room
 from slantways.shelf.shelves import Shelf
 from slantways.sort.sorting import Scale
 from slantways.way.ways import Slope, Way
@@ -19,6 +23,8 @@ def wrong_values():
         (), (1,), (3, 4), ("r", "s"), [], [1, 2], {}, {"a": 1}, {1: [2, (3,)]}, DEEP,
         Slope(3, 4), Slope(60, 60), Way(Slope(3, 4), "rrrssss"), Way(Slope(1, 1), "rs"),
         Shelf(Slope(3, 4), (1, 2, 5)), Shelf(Slope(1, 1)), Heap((2, 1)), Heap(), Scale({"a": 1, "b": -2}),
+        CountTable(Slope(3, 4)), Field(2), Field(9), Room(Field(2), Slope(2, 3), ((1, 1),)),
+        Room(Field(3), Slope(1, 4), ()), Chain(Room(Field(2), Slope(2, 3), ((1, 1),)), (((0, 1),),)),
     ]
 
 
@@ -60,6 +66,15 @@ def coprime_sides(width):
     """All pairs of sides up to 13 without a common part, with a product of (a - 1) and (b - 1) up to a width."""
     pairs = [(rises, steps) for rises in range(1, 14) for steps in range(1, 14) if gcd(rises, steps) == 1]
     return [(rises, steps) for rises, steps in pairs if (rises - 1) * (steps - 1) <= width]
+
+
+def own_counts(rises, steps, text):
+    """The room and the pairs of a way, by the whole squares and by the levels of its letters."""
+    levels = levels_of(rises, steps, text)
+    up = [level for letter, level in zip(text, levels) if letter == "r"]
+    along = [level for letter, level in zip(text, levels) if letter == "s"]
+    lower = sum(1 for step in along for rise in up if step < rise)
+    return sum(level // rises for level in up), (rises - 1) * (steps - 1) // 2 - lower
 
 
 def is_closed(gaps, rises, steps):

@@ -29,6 +29,25 @@ FUNCTIONS = {
         "level_pairs": ["way"], "free_numbers": ["shelf"], "counts_of": ["way"],
     },
     "slantways.sort.sorting": {"sorted_way": ["way"], "unsorted_way": ["way"], "way_rounds": ["way"]},
+    "slantways.count.tables": {
+        "quotient": ["slope"], "times": ["one", "other"], "divided": ["one", "other"], "value_at": ["polynomial", "x"],
+        "turn_polynomial": ["order"], "at_turn": ["slope", "order"],
+    },
+    "slantways.room.fields": {
+        "plain_rows": ["field", "length", "rows"], "across": ["field", "length", "rows"],
+        "is_spanned": ["field", "length", "rows", "value"], "row_product": ["field", "one", "other"],
+        "row_inverse": ["field", "one"], "row_moved": ["field", "one", "many"],
+    },
+    "slantways.room.rooms": {
+        "is_room": ["field", "slope", "value"], "free_places": ["shelf"], "meet": ["one", "other"],
+        "factor": ["one", "other"], "rooms_on": ["field", "shelf"], "rooms": ["field", "slope"],
+        "room_number": ["field", "slope"],
+    },
+    "slantways.room.chains": {
+        "step_table": ["room"], "step_sizes": ["room"], "is_chain": ["room", "value"], "chains": ["room"],
+        "chain_number": ["room"], "is_order_row": ["shelf", "value"], "order_rows": ["shelf"],
+        "wish_row": ["slope", "row"], "chains_on": ["field", "shelf"], "chain_total": ["field", "slope"],
+    },
 }
 CLASSES = {
     ("slantways.way.ways", "Slope"): (
@@ -57,6 +76,27 @@ CLASSES = {
          "rounds", "way_to", "__getitem__", "__invert__", "__contains__", "__len__", "__eq__", "__str__"],
         ["weights", "letters"],
     ),
+    ("slantways.count.tables", "CountTable"): (
+        ["slope"],
+        ["__getitem__", "row", "room_sums", "pair_sums", "is_even", "value", "spread", "__iter__", "__len__", "__eq__",
+         "__str__"],
+        ["slope", "total", "half"],
+    ),
+    ("slantways.room.fields", "Field"): (
+        ["size"],
+        ["plus", "minus", "times", "over", "negative", "inverse", "order", "power", "__contains__", "__len__",
+         "__iter__", "__eq__", "__str__"],
+        ["size", "prime", "members", "primitive"],
+    ),
+    ("slantways.room.rooms", "Room"): (
+        ["field", "slope", "rows"],
+        ["made_by", "with_numbers", "holds", "by_row", "own_maps", "dual", "__add__", "__contains__", "__len__",
+         "__eq__", "__str__"],
+        ["field", "slope", "basis", "orders", "shelf", "numbers"],
+    ),
+    ("slantways.room.chains", "Chain"): (
+        ["room", "spaces"], ["all_rooms", "turned", "__len__", "__eq__", "__str__"], ["room", "spaces", "orders"],
+    ),
 }
 PARAMETERS = {
     ("slantways.shelf.shelves", "Shelf"): {
@@ -72,15 +112,33 @@ PARAMETERS = {
         "is_back_levels": ["text", "value"], "unsorted": ["text"], "is_order": ["text", "value"], "course": ["text"],
         "rounds": ["text"], "way_to": ["text", "other"],
     },
+    ("slantways.count.tables", "CountTable"): {
+        "row": ["x"], "room_sums": [], "pair_sums": [], "is_even": [], "value": ["q", "t"], "spread": [],
+    },
+    ("slantways.room.fields", "Field"): {
+        "plus": ["x", "y"], "minus": ["x", "y"], "times": ["x", "y"], "over": ["x", "y"], "negative": ["x"],
+        "inverse": ["x"], "order": ["x"], "power": ["x", "number"],
+    },
+    ("slantways.room.rooms", "Room"): {
+        "made_by": ["field", "slope", "rows"], "with_numbers": ["field", "shelf", "numbers"], "holds": ["other"],
+        "by_row": ["row"], "own_maps": [], "dual": [],
+    },
+    ("slantways.room.chains", "Chain"): {"all_rooms": [], "turned": []},
 }
 CONSTANTS = {
     "slantways.way.ways": {"MAX_SIDE": 60},
     "slantways.shelf.shelves": {"MAX_LISTED": 5000},
     "slantways.heap.heaps": {"MAX_ROW": 60, "MAX_HEAPS": 5000},
     "slantways.sort.sorting": {"MAX_WEIGHT": 12, "MAX_TEXT": 24, "MAX_SORTED_WAY": 40, "MAX_ROUNDS": 5000},
+    "slantways.count.tables": {"MAX_WAYS": 5000, "MAX_TERMS": 400, "MAX_ORDER": 100},
+    "slantways.room.fields": {"SIZES": (2, 3, 4, 5, 7, 8, 9), "MAX_LENGTH": 60, "MAX_ROWS": 60},
+    "slantways.room.rooms": {"MAX_WIDTH": 24},
+    "slantways.room.chains": {"MAX_LISTED": 5000},
 }
 GENERATORS = [
     ("slantways.way.ways", "ways"), ("slantways.shelf.shelves", "shelves"), ("slantways.heap.heaps", "heaps"),
+    ("slantways.room.rooms", "rooms_on"), ("slantways.room.rooms", "rooms"), ("slantways.room.chains", "chains"),
+    ("slantways.room.chains", "order_rows"),
 ]
 LIBRARY = {"math": {"gcd", "lcm", "isqrt", "comb", "perm", "factorial"}}
 

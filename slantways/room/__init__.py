@@ -1,0 +1,1 @@
+"""Fields, rows over them, rooms, and chains of rooms."""
