@@ -4,11 +4,14 @@ from itertools import combinations
 from math import gcd
 
 from slantways.count.tables import CountTable
+from slantways.desk.desk import Desk
 from slantways.heap.heaps import Heap
+from slantways.parting.partings import Parting
 from slantways.room.chains import Chain
 from slantways.room.fields import Field
 from slantways.room.rooms import Room
 from slantways.shelf.shelves import Shelf
+from slantways.shuffle.shuffles import Shuffle
 from slantways.sort.sorting import Scale
 from slantways.way.ways import Slope, Way
 
@@ -25,6 +28,7 @@ def wrong_values():
         Shelf(Slope(3, 4), (1, 2, 5)), Shelf(Slope(1, 1)), Heap((2, 1)), Heap(), Scale({"a": 1, "b": -2}),
         CountTable(Slope(3, 4)), Field(2), Field(9), Room(Field(2), Slope(2, 3), ((1, 1),)),
         Room(Field(3), Slope(1, 4), ()), Chain(Room(Field(2), Slope(2, 3), ((1, 1),)), (((0, 1),),)),
+        Shuffle(Slope(3, 4), (4, 2, 0)), Parting(4, ((1, 4), (2, 3))), Parting(1, ((1,),)), Desk(Slope(3, 5)),
     ]
 
 

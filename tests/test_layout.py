@@ -48,6 +48,16 @@ FUNCTIONS = {
         "chain_number": ["room"], "is_order_row": ["shelf", "value"], "order_rows": ["shelf"],
         "wish_row": ["slope", "row"], "chains_on": ["field", "shelf"], "chain_total": ["field", "slope"],
     },
+    "slantways.shuffle.shuffles": {
+        "is_steady": ["slope", "value"], "shuffle_count": ["slope"], "shuffles": ["slope"],
+        "is_wishes": ["slope", "value"], "way_of_wishes": ["slope", "wishes"], "wish_rows": ["slope"],
+        "shuffle_of": ["slope", "wishes"], "named_table": ["slope"],
+    },
+    "slantways.parting.partings": {
+        "parting_of": ["way"], "way_of_parting": ["slope", "parting"], "partings": ["slope"],
+        "turned_way": ["way", "many"], "block_count": ["slope", "blocks"], "kept": ["slope", "many"],
+    },
+    "slantways.text.strings": {"write_value": ["value"], "read_value": ["string"]},
 }
 CLASSES = {
     ("slantways.way.ways", "Slope"): (
@@ -97,6 +107,21 @@ CLASSES = {
     ("slantways.room.chains", "Chain"): (
         ["room", "spaces"], ["all_rooms", "turned", "__len__", "__eq__", "__str__"], ["room", "spaces", "orders"],
     ),
+    ("slantways.shuffle.shuffles", "Shuffle"): (
+        ["slope", "window"], ["of_names", "__call__", "undone", "__len__", "__iter__", "__eq__", "__str__"],
+        ["slope", "window", "named_way", "names", "wishes", "room", "pairs"],
+    ),
+    ("slantways.parting.partings", "Parting"): (
+        ["size", "blocks"],
+        ["block_of", "turned_by", "between", "is_finer", "__len__", "__iter__", "__eq__", "__str__"],
+        ["size", "blocks", "block_sizes"],
+    ),
+    ("slantways.desk.desk", "Desk"): (
+        ["slope"],
+        ["put", "follow", "drop", "promise", "free", "undo", "redo", "during", "kept_way", "rule", "hanging", "promised",
+         "broken_by", "twin", "__contains__", "__len__", "__eq__", "__str__"],
+        ["slope", "names", "labels", "deeds"],
+    ),
 }
 PARAMETERS = {
     ("slantways.shelf.shelves", "Shelf"): {
@@ -124,6 +149,17 @@ PARAMETERS = {
         "by_row": ["row"], "own_maps": [], "dual": [],
     },
     ("slantways.room.chains", "Chain"): {"all_rooms": [], "turned": []},
+    ("slantways.shuffle.shuffles", "Shuffle"): {
+        "of_names": ["way", "names"], "__call__": ["number"], "undone": ["number"],
+    },
+    ("slantways.parting.partings", "Parting"): {
+        "block_of": ["point"], "turned_by": ["many"], "between": [], "is_finer": ["other"],
+    },
+    ("slantways.desk.desk", "Desk"): {
+        "put": ["name", "way"], "follow": ["name", "rule", "other"], "drop": ["name"], "promise": ["label", "promise"],
+        "free": ["label"], "undo": ["many"], "redo": ["many"], "during": ["call"], "kept_way": ["name"],
+        "rule": ["name"], "hanging": ["name"], "promised": ["label"], "broken_by": ["name", "way"], "twin": [],
+    },
 }
 CONSTANTS = {
     "slantways.way.ways": {"MAX_SIDE": 60},
@@ -134,11 +170,17 @@ CONSTANTS = {
     "slantways.room.fields": {"SIZES": (2, 3, 4, 5, 7, 8, 9), "MAX_LENGTH": 60, "MAX_ROWS": 60},
     "slantways.room.rooms": {"MAX_WIDTH": 24},
     "slantways.room.chains": {"MAX_LISTED": 5000},
+    "slantways.shuffle.shuffles": {"MAX_SHUFFLES": 5000},
+    "slantways.parting.partings": {"MAX_POINTS": 60, "MAX_PARTED": 5000},
+    "slantways.desk.desk": {
+        "MAX_NAMES": 12, "MAX_PROMISES": 12, "MAX_LETTERS": 24, "RULES": ("dual", "sorted", "unsorted"),
+    },
 }
 GENERATORS = [
     ("slantways.way.ways", "ways"), ("slantways.shelf.shelves", "shelves"), ("slantways.heap.heaps", "heaps"),
     ("slantways.room.rooms", "rooms_on"), ("slantways.room.rooms", "rooms"), ("slantways.room.chains", "chains"),
-    ("slantways.room.chains", "order_rows"),
+    ("slantways.room.chains", "order_rows"), ("slantways.shuffle.shuffles", "shuffles"),
+    ("slantways.shuffle.shuffles", "wish_rows"), ("slantways.parting.partings", "partings"),
 ]
 LIBRARY = {"math": {"gcd", "lcm", "isqrt", "comb", "perm", "factorial"}}
 

@@ -3,6 +3,7 @@ from math import factorial
 
 from slantways.checks import is_number, is_whole_between
 from slantways.count.tables import powers
+from slantways.count.wishes import wishes_of
 from slantways.errors import InvalidChain, InvalidOperation, TooMany
 from slantways.room.fields import is_rows
 from slantways.room.rooms import check_room, check_room_shelf, check_room_slope, check_width
@@ -214,26 +215,13 @@ def is_continued(slope, value):
     return len({number % slope.rises: True for number in value}) == slope.rises
 
 
-def wish(slope, row, at):
-    """How many integers behind an index of a continued row are less than the one there, by less than the steps."""
-    rises = slope.rises
-    count = 0
-    for place, number in enumerate(row):
-        distance = row[at] - number
-        # Moved by the rises so many times, the number comes down to the one at the index, or too far below it.
-        least = max(int(place <= at), (distance - slope.steps) // rises + 1)
-        most = (distance - 1) // rises
-        count = count + max(0, most - least + 1)
-    return count
-
-
 def wish_row(slope, row):
     """The tuple of the wishes of a tuple of integers of unlike rests by the rises."""
     check_slope(slope)
     check_width(slope)
     if not is_continued(slope, row):
         raise InvalidOperation("this is no tuple of integers, one for each rise, of unlike rests")
-    return tuple([wish(slope, row, at) for at in range(slope.rises)])
+    return wishes_of(slope, row)
 
 
 def order_row_number(shelf):

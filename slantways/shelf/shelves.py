@@ -64,16 +64,7 @@ class Shelf:
 
     def way(self):
         """The way whose shelf this is."""
-        level = 0
-        letters = []
-        for _ in range(self._slope.rises + self._slope.steps):
-            if level in self._rise_makers:
-                letters.append("r")
-                level = level + self._slope.steps
-            else:
-                letters.append("s")
-                level = level - self._slope.rises
-        return Way(self._slope, "".join(letters))
+        return way_with_rises(self._slope, self._rise_makers)
 
     def dual(self):
         """The dual shelf."""
@@ -161,6 +152,20 @@ def check_listed(slope):
     check_coprime(slope)
     if way_count(slope) > MAX_LISTED:
         raise TooMany(MAX_LISTED)
+
+
+def way_with_rises(slope, levels):
+    """The way that has some levels ahead of its rises."""
+    level = 0
+    letters = []
+    for _ in range(slope.rises + slope.steps):
+        if level in levels:
+            letters.append("r")
+            level = level + slope.steps
+        else:
+            letters.append("s")
+            level = level - slope.rises
+    return Way(slope, "".join(letters))
 
 
 def least_members(side, gaps):

@@ -1,0 +1,1 @@
+"""Desks that keep ways under names."""

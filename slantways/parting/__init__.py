@@ -1,0 +1,1 @@
+"""Partings of points on a ring."""

@@ -1,0 +1,1 @@
+"""Steady shuffles of a slope and their wishes."""
