@@ -370,7 +370,12 @@ class WrongTest(Case):
         for value in no_names():
             self.raised(InvalidOperation, desk.put, value, None)
             self.raised(InvalidOperation, desk.follow, value, None, None)
+            self.raised(InvalidOperation, desk.follow, value, "dual", "u")
+            self.raised(InvalidOperation, desk.follow, value, "dual", "nobody")
             self.raised(InvalidOperation, desk.promise, value, None)
+            self.raised(InvalidOperation, desk.promise, value, ("room", "u", 4))
+            self.raised(InvalidOperation, desk.put, value, HIGH)
+            self.raised(InvalidOperation, desk.broken_by, value, HIGH)
             self.raised(InvalidOperation, desk.broken_by, value, None)
 
     def test_unknown_names(self):

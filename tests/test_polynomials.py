@@ -2,7 +2,9 @@
 import cmath
 import unittest
 from math import gcd
+from unittest.mock import patch
 
+from slantways.count import tables as module
 from slantways.count.tables import (
     MAX_ORDER, MAX_TERMS, at_turn, divided, quotient, times, turn_polynomial, value_at,
 )
@@ -132,6 +134,12 @@ class WrongTest(Case):
 
 
 class QuotientTest(Case):
+    def test_limit(self):
+        with patch.object(module, "MAX_TERMS", 7):
+            self.assertEqual(len(quotient(Slope(3, 4))), 7)
+            self.raised_number(TooMany, 7, quotient, Slope(3, 5))
+            self.raised_number(TooMany, 7, at_turn, Slope(3, 5), 1)
+
     def test_division(self):
         for rises, steps in SIDES:
             one = other = (1,)

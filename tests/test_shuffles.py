@@ -14,7 +14,7 @@ from slantways.shuffle.shuffles import (
     MAX_SHUFFLES, Shuffle, is_steady, named_table, shuffle_count, shuffles, way_of_wishes,
 )
 from slantways.sort.sorting import sorted_way
-from slantways.way.ways import Slope, Way, lowest, ways
+from slantways.way.ways import Slope, Way, highest, lowest, ways
 from tests.helper import Case, wrong_for, wrong_numbers, wrong_values
 
 SLOPE = Slope(3, 4)
@@ -257,6 +257,8 @@ class WrongTest(Case):
             self.raised(InvalidShuffle, Shuffle, slope, list(window))
             self.raised_number(Refused, kept, Shuffle.of_names, lowest(slope), own_names_of(lowest(slope)))
             self.raised(InvalidShuffle, Shuffle.of_names, lowest(slope), window[:-1])
+            self.raised(InvalidShuffle, Shuffle.of_names, lowest(slope), window[:-1] + (rises + 1,))
+            self.raised(InvalidShuffle, Shuffle.of_names, highest(slope), window[::-1])
         self.raised_number(Refused, ("common", 2), Shuffle, Slope(2, 2), (-99, 102))
         self.raised(InvalidShuffle, Shuffle, Slope(2, 2), (1 - 2 * LONG, 2 + 2 * LONG))
 

@@ -37,10 +37,6 @@ class Keeping:
         """The dict from all names to their ways."""
         return dict(self._ways)
 
-    def is_like(self, other):
-        """Whether another one keeps the same."""
-        return (self._ways == other._ways and self._rules == other._rules and self._promises == other._promises)
-
     def with_way(self, name, way):
         """What is kept when a way has been given to a name."""
         rules = {one: self._rules[one] for one in self._rules if one != name}
@@ -81,6 +77,10 @@ class Keeping:
         """The ascending tuple of the labels of all promises that are not true."""
         return tuple(sorted([str(label) for label in self._promises
                              if not is_true(self._ways, self._promises[label])]))
+
+    def __eq__(self, other):
+        return (isinstance(other, Keeping) and self._ways == other._ways and self._rules == other._rules
+                and self._promises == other._promises)
 
 
 def is_name(value):

@@ -166,7 +166,7 @@ class Desk:
         return len(self._now.ways_kept)
 
     def __eq__(self, other):
-        return isinstance(other, Desk) and self._slope == other._slope and self._now.is_like(other._now)
+        return isinstance(other, Desk) and self._slope == other._slope and self._now == other._now
 
     def __str__(self):
         return f"desk of {self._slope} with {len(self.names)} names, {len(self.labels)} promises"
