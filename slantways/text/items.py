@@ -42,12 +42,10 @@ def number_at(items, at, least, most):
 def slope_at(items, at):
     """The slope whose text is the item with an index."""
     check_there(items, at)
-    slope = None
     try:
-        slope = Slope.of_text(items[at])
+        return Slope.of_text(items[at])
     except ParseError:
         raise ParseError(at) from None
-    return slope
 
 
 def coprime_slope_at(items, at):
