@@ -24,7 +24,7 @@ def namings(runs):
     lots = [[() for _ in runs]]
     for name in range(1, sum(runs) + 1):
         longer = []
-        for lot in lots:
+        for lot in list(lots):
             for at, run in enumerate(runs):
                 if len(lot[at]) < run:
                     longer.append(lot[:at] + [lot[at] + (name,)] + lot[at + 1:])
@@ -55,7 +55,7 @@ def rises_by_wishes(way, wishes):
     rows = [[]]
     for wanted in wishes:
         longer = []
-        for row in rows:
+        for row in list(rows):
             left = [level for level in levels if level not in row]
             for level in left:
                 nearer = [other for other in left if 0 < level - other < slope.steps]
